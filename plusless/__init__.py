@@ -1,0 +1,1 @@
+"""Plusless: signs before numbers."""
