@@ -26,6 +26,17 @@ def need_number(thing):
         raise NoNumber("this is no whole number")
 
 
+def need_number_from(least, thing):
+    need_number(thing)
+    if thing < least:
+        raise NoNumber(f"this number is below {least}")
+
+
+def need_row_and_number(row, number):
+    need_row(row)
+    need_number(number)
+
+
 def are_parts(thing, row):
     need_row(row)
     if not isinstance(thing, tuple) or len(thing) != len(row):

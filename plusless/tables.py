@@ -1,7 +1,7 @@
 """The worths of short rows by tables, and papers that show a number is none."""
 
 from plusless.errors import TooMany
-from plusless.rows import is_whole, need_number, need_row
+from plusless.rows import is_whole, need_row, need_row_and_number
 
 LONGEST_TABLED = 10
 SIGNS = (-1, 1)
@@ -9,13 +9,13 @@ PARTS = (-1, 0, 1)
 
 
 def need_few(row):
-    if len(row) > LONGEST_TABLED:
-        raise TooMany("tables are for rows of at most ten numbers")
-
-
-def need_row_and_number(row, number):
     need_row(row)
-    need_number(number)
+    if len(row) > LONGEST_TABLED:
+        raise TooMany("here rows have at most ten numbers")
+
+
+def need_few_and_number(row, number):
+    need_row_and_number(row, number)
     need_few(row)
 
 
@@ -36,13 +36,11 @@ def table_of(row, choices):
 
 
 def sign_table(row):
-    need_row(row)
     need_few(row)
     return table_of(row, SIGNS)
 
 
 def part_table(row):
-    need_row(row)
     need_few(row)
     return table_of(row, PARTS)
 
@@ -69,22 +67,22 @@ def first_to(row, number, choices):
 
 
 def signs_to(row, number):
-    need_row_and_number(row, number)
+    need_few_and_number(row, number)
     return first_to(row, number, SIGNS)
 
 
 def parts_to(row, number):
-    need_row_and_number(row, number)
+    need_few_and_number(row, number)
     return first_to(row, number, PARTS)
 
 
 def sign_ways(row, number):
-    need_row_and_number(row, number)
+    need_few_and_number(row, number)
     return table_of(row, SIGNS).get(number, 0)
 
 
 def part_ways(row, number):
-    need_row_and_number(row, number)
+    need_few_and_number(row, number)
     return table_of(row, PARTS).get(number, 0)
 
 
@@ -113,37 +111,42 @@ def are_layers(thing, row, choices):
 
 
 def is_barred(thing, row, number):
-    need_row_and_number(row, number)
+    need_few_and_number(row, number)
     return are_layers(thing, row, SIGNS) and number not in thing[-1]
 
 
 def is_wide_barred(thing, row, number):
-    need_row_and_number(row, number)
+    need_few_and_number(row, number)
     return are_layers(thing, row, PARTS) and number not in thing[-1]
 
 
-def least_layers(row, number, choices):
+def least_layers(row, choices):
     # What is reached has to be there, and nothing else has to: so these are the fewest numbers.
     table = {0: 1}
     layers = [(0,)]
     for step in row:
         table = stepped(table, step, choices)
         layers.append(tuple(sorted(table)))
-    return None if number in table else layers
+    return layers
+
+
+def least_without(number, row, choices):
+    layers = least_layers(row, choices)
+    return None if number in layers[-1] else layers
 
 
 def layers_for(row, number):
-    need_row_and_number(row, number)
-    return least_layers(row, number, SIGNS)
+    need_few_and_number(row, number)
+    return least_without(number, row, SIGNS)
 
 
 def wide_layers_for(row, number):
-    need_row_and_number(row, number)
-    return least_layers(row, number, PARTS)
+    need_few_and_number(row, number)
+    return least_without(number, row, PARTS)
 
 
 def is_rest(thing, row, number):
-    need_row_and_number(row, number)
+    need_few_and_number(row, number)
     if not is_whole(thing) or thing < 2:
         return False
     divides_all = all([2 * step % thing == 0 for step in row])
@@ -162,7 +165,7 @@ def common_divisor(row):
 
 
 def rest_for(row, number):
-    need_row_and_number(row, number)
+    need_few_and_number(row, number)
     if row == ():
         return None
     # Every rest divides this one; so where it is none, no other number is.

@@ -1,6 +1,9 @@
 """Things that several tests hand in, and answers found by going through everything."""
 
+from functools import lru_cache
 from itertools import product
+
+from plusless.errors import PlusError
 
 LARGE = 10 ** 30 - 1
 
@@ -48,10 +51,24 @@ LONG_ROWS = [
     tuple(range(1, 12)), (5,) * 13, tuple(range(LARGE - 15, LARGE)), tuple(range(LARGE, LARGE - 16, -1)), (1,) * 16,
 ]
 
+SIXTEENS = [
+    tuple(range(1, 17)), (1,) * 16, (3, 1, 4, 1, 5, 9, 2, 6, 5, 3, 5, 8, 9, 7, 9, 3),
+    tuple(3 ** place for place in range(16)), tuple(LARGE - 7 * place * place for place in range(16)),
+]
+
 ALL_ROWS = SMALL_ROWS + MORE_ROWS + LONG_ROWS
 
 TEN = (3, 1, 4, 1, 5, 9, 2, 6, 5, 35)
 ELEVEN = (1,) * 11
+
+
+def refused(function, *handed):
+    """The class of the refusal, None where nothing is refused."""
+    try:
+        function(*handed)
+    except PlusError as error:
+        return type(error)
+    return None
 
 
 def all_signs(row):
@@ -90,6 +107,15 @@ def counted(row, choices):
         reached = plain_worth(row, chosen)
         table[reached] = table.get(reached, 0) + 1
     return table
+
+
+@lru_cache(maxsize=None)
+def signs_by_worth(row):
+    """For each worth all signs that have it, in the order of tuples."""
+    found = {}
+    for signs in all_signs(row):
+        found.setdefault(plain_worth(row, signs), []).append(signs)
+    return found
 
 
 def numbers_about(row):

@@ -1,20 +1,35 @@
 import unittest
 
 from plusless import errors
-from plusless import rows, tables, texts
+from plusless import evenness, every, halves, rows, tables, texts
 from plusless.errors import NoNumber, NoRow, NoSigns, NoText, PlusError, TooMany
 from samples import ELEVEN, NEVER_PARTS, NO_NUMBERS, NO_ROWS
 
 MADE_OF_A_TEXT = ("NoRow", "NoNumber", "NoSigns", "TooMany", "Lacking", "Bare", "NoTable", "NoLine")
 
-ROW_ALONE = (rows.total, tables.sign_table, tables.part_table)
-ROW_AND_PARTS = (rows.worth, rows.turned, rows.lots, rows.kept, texts.show)
-THING_AND_ROW = (rows.are_parts, rows.are_signs)
-ROW_AND_NUMBER = (
+# These refuse more than ten numbers, the others do not.
+FEW_ALONE = (tables.sign_table, tables.part_table, evenness.uneven_paper)
+THING_AND_FEW = (evenness.uneven_bound,)
+FEW_AND_NUMBER = (
     tables.signs_to, tables.parts_to, tables.sign_ways, tables.part_ways,
     tables.layers_for, tables.wide_layers_for, tables.rest_for,
 )
-THING_ROW_NUMBER = (tables.is_barred, tables.is_wide_barred, tables.is_rest)
+THING_FEW_NUMBER = (tables.is_barred, tables.is_wide_barred, tables.is_rest)
+
+LONG_ALONE = (
+    rows.total, halves.half_worths,
+    evenness.unevenness, evenness.evenest, evenness.evenest_many, evenness.differences, evenness.difference_signs,
+    every.every_by_parts, every.every_by_signs, every.missed_by_parts, every.missed_by_signs,
+)
+THING_AND_LONG = (rows.are_parts, rows.are_signs)
+LONG_AND_NUMBER = (halves.many_met, halves.first_met, halves.stair_for, halves.below, halves.above, every.weighed)
+THING_LONG_NUMBER = (halves.is_stair,)
+
+ROW_ALONE = FEW_ALONE + LONG_ALONE
+THING_AND_ROW = THING_AND_FEW + THING_AND_LONG
+ROW_AND_NUMBER = FEW_AND_NUMBER + LONG_AND_NUMBER
+THING_ROW_NUMBER = THING_FEW_NUMBER + THING_LONG_NUMBER
+ROW_AND_PARTS = (rows.worth, rows.turned, rows.lots, rows.kept, texts.show)
 
 THINGS = [None, True, 2, -1, "x", [], [(0,)], (), (1,), {}, [[0]]]
 
@@ -78,14 +93,30 @@ class Order(unittest.TestCase):
 
     def test_too_many_behind_all_else(self):
         for row in (ELEVEN, tuple(range(1, 12)), (1,) * 12, (1,) * 16):
-            for function in (tables.sign_table, tables.part_table):
+            for function in FEW_ALONE:
                 self.assert_refused(TooMany, function, row)
+            for thing in THINGS:
+                for function in THING_AND_FEW:
+                    self.assert_refused(TooMany, function, thing, row)
             for number in (0, 1, -5, 10 ** 29):
-                for function in ROW_AND_NUMBER:
+                for function in FEW_AND_NUMBER:
                     self.assert_refused(TooMany, function, row, number)
                 for thing in THINGS:
-                    for function in THING_ROW_NUMBER:
+                    for function in THING_FEW_NUMBER:
                         self.assert_refused(TooMany, function, thing, row, number)
+
+    def test_sixteen_are_not_too_many_for_the_others(self):
+        for row in (ELEVEN, (1,) * 16):
+            for function in LONG_ALONE:
+                function(row)
+            for number in (0, 1, -5):
+                for function in LONG_AND_NUMBER:
+                    function(row, number)
+            for thing in THINGS:
+                for function in THING_AND_LONG:
+                    self.assertIs(function(thing, row), False)
+                for function in THING_LONG_NUMBER:
+                    self.assertIs(function(thing, row, 1), False)
 
 
 if __name__ == "__main__":

@@ -30,6 +30,10 @@ WORDS_LEFT_OUT = re.compile(
 
 NAMES_LEFT_OUT = "register mro elements open input version_info with_traceback add_note".split()
 
+# An object's value is not called like these, which Python's own values have.
+VALUES_LEFT_OUT = """items keys values pop update append clear extend insert remove reverse setdefault sort args encode
+format""".split()
+
 
 def each_file():
     for path in sorted(PACKAGE.rglob("*.py")):
@@ -53,6 +57,29 @@ def bound_names(tree):
 
 def own_functions():
     return {node.name for name, text, tree in each_file() for node in ast.walk(tree) if isinstance(node, ast.FunctionDef)}
+
+
+def class_methods():
+    classes = [node for name, text, tree in each_file() for node in ast.walk(tree) if isinstance(node, ast.ClassDef)]
+    return {made.name for node in classes for made in node.body if isinstance(made, ast.FunctionDef)}
+
+
+def object_values():
+    stored = set()
+    for name, text, tree in each_file():
+        for node in ast.walk(tree):
+            if isinstance(node, ast.Attribute) and isinstance(node.ctx, ast.Store):
+                stored.add(node.attr)
+    return stored
+
+
+def local_names(function):
+    asked = {node.arg for node in ast.walk(function) if isinstance(node, ast.arg)}
+    return asked | {node.id for node in ast.walk(function) if isinstance(node, ast.Name) and isinstance(node.ctx, ast.Store)}
+
+
+def drawn_from(tree):
+    return {node.module.split(".")[1] for node in tree.body if isinstance(node, ast.ImportFrom)}
 
 
 class Language(unittest.TestCase):
@@ -104,6 +131,33 @@ class Language(unittest.TestCase):
                     self.assertIn(node.id, bound | set(OWN_NAMES), (name, node.lineno))
                 if isinstance(node, ast.Call) and isinstance(node.func, ast.Attribute):
                     self.assertIn(node.func.attr, own_functions() | set(OWN_METHODS), (name, node.lineno))
+
+    def test_methods_and_values(self):
+        self.assertEqual(class_methods() & object_values(), set())
+        self.assertEqual(object_values() & set(VALUES_LEFT_OUT + NAMES_LEFT_OUT), set())
+        self.assertEqual(class_methods() & set(NAMES_LEFT_OUT + ["format", "format_map"]), set())
+
+    def test_locals_are_not_called_like_classes_or_imports(self):
+        for name, text, tree in each_file():
+            taken = {asked.name for node in tree.body if isinstance(node, ast.ImportFrom) for asked in node.names}
+            taken |= {node.name for node in tree.body if isinstance(node, ast.ClassDef)}
+            for node in ast.walk(tree):
+                if isinstance(node, ast.FunctionDef):
+                    self.assertEqual(local_names(node) & taken, set(), (name, node.name))
+
+    def test_each_name_once_at_the_top(self):
+        for name, text, tree in each_file():
+            bound = [asked.name for node in tree.body if isinstance(node, ast.ImportFrom) for asked in node.names]
+            bound += [node.name for node in tree.body if isinstance(node, (ast.FunctionDef, ast.ClassDef))]
+            bound += [node.targets[0].id for node in tree.body if isinstance(node, ast.Assign)]
+            self.assertEqual(len(bound), len(set(bound)), name)
+
+    def test_no_two_files_draw_from_one_another(self):
+        left = {name[:-3]: drawn_from(tree) for name, text, tree in each_file()}
+        while left:
+            free = [name for name in left if not left[name] & set(left)]
+            self.assertNotEqual(free, [], sorted(left))
+            left = {name: left[name] for name in left if name not in free}
 
     def test_imports(self):
         for name, text, tree in each_file():

@@ -1,7 +1,7 @@
 import unittest
 from copy import deepcopy
 
-from plusless import rows, tables, texts
+from plusless import evenness, every, halves, rows, tables, texts
 from samples import LARGE, TEN
 
 LAYERS = [(0,), (-3, 3), (-8, -2, 2, 8)]
@@ -18,6 +18,17 @@ ASKED = [
     (tables.is_barred, ([[0], {3: [3]}, None], (3, 5), 1)), (tables.is_rest, ([2, [3]], (3, 5), 1)),
     (tables.layers_for, ((3, 5), 1)), (tables.wide_layers_for, ((3, 5), LARGE)), (tables.layers_for, ((), 1)),
     (tables.rest_for, ((3, 5), 1)),
+    (halves.half_worths, ((3, 5, 7),)), (halves.many_met, ((3, 5), 2)), (halves.first_met, ((3, 5), 2)),
+    (halves.stair_for, ((3, 5), 1)), (halves.is_stair, (((0, 1), (0, 0), (1, 0)), (3, 5), 1)),
+    (halves.is_stair, ([[0, 1], [0, 0], {1: 0}], (3, 5), 1)), (halves.is_stair, (((0, [1]), {}), (3, 5), 1)),
+    (halves.below, ((3, 5), 1)), (halves.above, ((3, 5), 1)),
+    (evenness.unevenness, ((3, 5, 7),)), (evenness.evenest, ((3, 5, 7),)), (evenness.evenest_many, ((3, 5, 7),)),
+    (evenness.differences, ((3, 7, 5),)), (evenness.differences, ((),)), (evenness.difference_signs, ((3, 7, 5),)),
+    (evenness.uneven_bound, (deepcopy(LAYERS), (3, 5))), (evenness.uneven_bound, ([[0], {3: [3]}, None], (3, 5))),
+    (evenness.uneven_paper, ((3, 5),)), (evenness.uneven_paper, ((),)),
+    (every.every_by_parts, ((3, 1),)), (every.every_by_signs, ((3, 1),)), (every.missed_by_parts, ((7, 1),)),
+    (every.missed_by_signs, ((7, 1),)), (every.fewest_by_parts, (7,)), (every.fewest_by_signs, (7,)),
+    (every.row_by_parts, (7,)), (every.row_by_signs, (7,)), (every.weighed, ((3, 1), 2)),
 ]
 
 
@@ -55,7 +66,9 @@ class Unchanged(unittest.TestCase):
     def test_kinds_of_what_is_told(self):
         self.assertIs(type(tables.sign_table((3, 5))), dict)
         self.assertIs(type(tables.part_table((3, 5))), dict)
-        for layers in (tables.layers_for((3, 5), 1), tables.wide_layers_for((3, 5), 1)):
+        told = (tables.layers_for((3, 5), 1), tables.wide_layers_for((3, 5), 1))
+        told += (evenness.uneven_paper((3, 5)), evenness.differences((3, 5)), evenness.differences(()))
+        for layers in told:
             self.assertIs(type(layers), list)
             self.assertEqual({type(layer) for layer in layers}, {tuple})
 
