@@ -1,6 +1,6 @@
 """The worths of rows of up to sixteen numbers, met from the worths of both halves."""
 
-from plusless.rows import is_whole, need_row, need_row_and_number
+from plusless.rows import are_whole, need_row, need_row_and_number
 from plusless.tables import SIGNS, table_of
 
 
@@ -20,16 +20,21 @@ def many_met(row, number):
     return sum([ways * counts[1].get(number - reached, 0) for reached, ways in counts[0].items()])
 
 
+def firsts_stepped(firsts, step):
+    # Whatever signs come behind, they go on alike from the same worth: so only the first ones to it are kept.
+    longer = {}
+    for reached, signs in firsts.items():
+        for sign in SIGNS:
+            there = reached + sign * step
+            chosen = signs + (sign,)
+            longer[there] = min(chosen, longer.get(there, chosen))
+    return longer
+
+
 def firsts_of(row):
     firsts = {0: ()}
     for step in row:
-        longer = {}
-        for reached, signs in firsts.items():
-            for sign in SIGNS:
-                there = reached + sign * step
-                chosen = signs + (sign,)
-                longer[there] = min(chosen, longer.get(there, chosen))
-        firsts = longer
+        firsts = firsts_stepped(firsts, step)
     return firsts
 
 
@@ -65,14 +70,10 @@ def stair_for(row, number):
     return tuple([(i, j) for i, j, both in walked])
 
 
-def is_place(thing):
-    return isinstance(thing, tuple) and len(thing) == 2 and all([is_whole(place) for place in thing])
-
-
 def is_stair(thing, row, number):
     need_row_and_number(row, number)
     # In Python True equals 1, so it is not enough that the thing equals the stair.
-    if not isinstance(thing, tuple) or not all([is_place(place) for place in thing]):
+    if not isinstance(thing, tuple) or not all([are_whole(place, 2) for place in thing]):
         return False
     return thing == stair_for(row, number)
 

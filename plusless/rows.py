@@ -10,6 +10,10 @@ def is_whole(thing):
     return isinstance(thing, int) and not isinstance(thing, bool)
 
 
+def are_whole(thing, many):
+    return isinstance(thing, tuple) and len(thing) == many and all([is_whole(number) for number in thing])
+
+
 def is_row(thing):
     if not isinstance(thing, tuple) or len(thing) > LONGEST_ROW:
         return False
@@ -39,18 +43,26 @@ def need_row_and_number(row, number):
 
 def are_parts(thing, row):
     need_row(row)
-    if not isinstance(thing, tuple) or len(thing) != len(row):
-        return False
-    return all([is_whole(part) and -1 <= part <= 1 for part in thing])
+    return are_whole(thing, len(row)) and all([-1 <= part <= 1 for part in thing])
+
+
+def are_so_many_signs(thing, many):
+    return are_whole(thing, many) and all([abs(sign) == 1 for sign in thing])
 
 
 def are_signs(thing, row):
-    return are_parts(thing, row) and 0 not in thing
+    need_row(row)
+    return are_so_many_signs(thing, len(row))
 
 
 def need_parts(row, thing):
     if not are_parts(thing, row):
         raise NoSigns("parts are a tuple of 1, 0 or -1, one for each number of the row")
+
+
+def need_so_many_signs(thing, many):
+    if not are_so_many_signs(thing, many):
+        raise NoSigns(f"signs are here a tuple of 1 or -1, {many} of them")
 
 
 def total(row):

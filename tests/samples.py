@@ -36,6 +36,27 @@ NEVER_PARTS = [
     (1, -1, True), (1, 2), (-2, 1), (1, "1"), (1, [1]), (1, (1,)), (0, None), (1,) * 17, nested(10, 1), nested(9, (1,)),
 ]
 
+NO_PAIRS = [
+    True, False, None, 0, 1, -1, LARGE, "", "1", "(1, 2)", [], [(1, 2)], [[1, 2]], {}, {1: 2}, {(1, 2): 1},
+    (1,), (1, 2), (0, 0), (None,), ("",), ("12",), (True,), ((),), ((1,),), ((1, 2, 3),), ([1, 2],), ({1: 2},), ([],),
+    ((True, 1),), ((1, False),), ((1, "2"),), (("1", 2),), ((1, None),), ((1, [2]),), ((1, (2,)),), (((1, 2),),),
+    ((1, 2), (3, 4), [5, 6]), ((1, 2), 3), ((1, 2), (3, 4), (5, True)), ((1, 2), (3,)), ((1, 2),) * 13, ((0, 0),) * 16,
+    ((1, 2),) * 11 + ((1, None),), nested(10, 1), nested(9, ()), nested(8, (1, 2)),
+]
+
+NO_GOALS = [
+    True, False, None, 0, 3, LARGE, "", "12", "(1, 2)", [], [1, 2], {}, {1: 2}, {0: 1, 1: 2}, (), (1,), (1, 2, 3), (0, 0, 0),
+    (True, 1), (1, False), (True, False), (None, None), (1, None), ("1", 2), (1, "2"), ([1], 2), (1, (2,)), ((1, 2),),
+    ((1, 2), (3, 4)), ({}, 1), (1, 2, True), nested(10, 1), nested(9, (1, 2)),
+]
+
+NO_TABLES = [
+    True, False, None, 0, 1, LARGE, "", "{0: 1}", [], [(0, 1)], [0, 1], (), (0, 1), ((0, 1),), {},
+    {0: 0}, {0: -1}, {1: 1, 0: 0}, {0: 1, 5: -LARGE}, {0: True}, {0: False}, {0: None}, {0: "1"}, {0: [1]}, {0: (1,)}, {0: {}},
+    {0: {0: 1}}, {True: 1}, {False: 1}, {2: 1, True: 1}, {None: 1}, {"0": 1}, {"": 1}, {(0,): 1}, {(): 1}, {(0, 1): 1},
+    {0: 1, "1": 1}, {0: 1, 1: True}, {0: 1, 1: None}, nested(10, 1), nested(9, {0: 1}),
+]
+
 SMALL_ROWS = (
     [()] + [(a,) for a in (1, 2, 3, 7)] + list(product((1, 2, 3, 5), repeat=2)) + list(product((1, 2, 4), repeat=3))
 )
@@ -57,6 +78,16 @@ SIXTEENS = [
 ]
 
 ALL_ROWS = SMALL_ROWS + MORE_ROWS + LONG_ROWS
+
+PAIR_ROWS = [
+    (), ((0, 0),), ((3, 0),), ((0, -5),), ((2, 3),), ((-LARGE, LARGE),), ((0, 0), (0, 0)), ((1, 0), (0, 1)), ((2, 4), (1, 2)),
+    ((2, -4), (-1, 2), (3, -6)), ((1, 1), (1, -1)), ((3, 1), (1, 3), (2, 2)), ((0, 0), (4, 6), (0, 0)),
+    ((5, -3), (-2, 7), (4, 4), (1, 0)), ((1, 2), (1, 2), (1, 2), (1, 2)), ((2, 0), (0, 2), (2, 2), (-2, 2)),
+    ((6, 0), (9, 0), (15, 0)), ((0, 2), (0, -2), (0, 3)), ((7, 7), (-7, -7), (7, -7), (1, 1), (2, 5)),
+    ((3, 1), (4, 1), (5, 9), (2, 6), (5, 3), (5, 8)), ((LARGE, 1), (1, -LARGE), (LARGE, LARGE)),
+]
+
+TWELVE_PAIRS = ((3, 1), (4, -1), (-5, 9), (2, 6), (5, 3), (5, -8), (9, 7), (9, 3), (-2, 3), (8, 4), (6, 2), (0, 0))
 
 TEN = (3, 1, 4, 1, 5, 9, 2, 6, 5, 35)
 ELEVEN = (1,) * 11
@@ -115,6 +146,48 @@ def signs_by_worth(row):
     found = {}
     for signs in all_signs(row):
         found.setdefault(plain_worth(row, signs), []).append(signs)
+    return found
+
+
+def plain_pair_worth(pairs, signs):
+    return (
+        plain_worth([pair[0] for pair in pairs], signs),
+        plain_worth([pair[1] for pair in pairs], signs),
+    )
+
+
+@lru_cache(maxsize=None)
+def signs_by_pair(pairs):
+    """For each worth, a pair, all signs that have it, in the order of tuples."""
+    found = {}
+    for signs in all_signs(pairs):
+        found.setdefault(plain_pair_worth(pairs, signs), []).append(signs)
+    return found
+
+
+def goals_about(pairs):
+    """Worths, goals beside them and between them, and goals beyond them on all sides."""
+    near = {(0, 0), (1, 0), (0, 1), (-1, 1), (LARGE, 0), (-LARGE, LARGE)}
+    for x, y in list(signs_by_pair(pairs))[:40]:
+        near.update({(x, y), (x + 1, y), (x, y - 1), (x + 2, y + 2), (2 * x, 2 * y), (x // 2, y // 2), (y, x), (x, -y)})
+    return sorted(near)
+
+
+def plain_swing(row, signs):
+    reached = 0
+    sizes = [0]
+    for number, sign in zip(row, signs, strict=True):
+        reached += number * sign
+        sizes.append(-reached if reached < 0 else reached)
+    return max(sizes)
+
+
+@lru_cache(maxsize=None)
+def signs_by_swing(row):
+    """For each swing all signs that have it, in the order of tuples."""
+    found = {}
+    for signs in all_signs(row):
+        found.setdefault(plain_swing(row, signs), []).append(signs)
     return found
 
 

@@ -1,7 +1,7 @@
 import unittest
 
 from plusless import errors
-from plusless import evenness, every, halves, rows, tables, texts
+from plusless import evenness, every, halves, inturn, rows, tables, texts
 from plusless.errors import NoNumber, NoRow, NoSigns, NoText, PlusError, TooMany
 from samples import ELEVEN, NEVER_PARTS, NO_NUMBERS, NO_ROWS
 
@@ -12,24 +12,27 @@ FEW_ALONE = (tables.sign_table, tables.part_table, evenness.uneven_paper)
 THING_AND_FEW = (evenness.uneven_bound,)
 FEW_AND_NUMBER = (
     tables.signs_to, tables.parts_to, tables.sign_ways, tables.part_ways,
-    tables.layers_for, tables.wide_layers_for, tables.rest_for,
+    tables.layers_for, tables.wide_layers_for, tables.rest_for, inturn.swing_paper,
 )
-THING_FEW_NUMBER = (tables.is_barred, tables.is_wide_barred, tables.is_rest)
+THING_FEW_NUMBER = (tables.is_barred, tables.is_wide_barred, tables.is_rest, inturn.is_swing_paper)
 
 LONG_ALONE = (
     rows.total, halves.half_worths,
     evenness.unevenness, evenness.evenest, evenness.evenest_many, evenness.differences, evenness.difference_signs,
     every.every_by_parts, every.every_by_signs, every.missed_by_parts, every.missed_by_signs,
+    inturn.least_swing, inturn.calm, inturn.leaning,
 )
 THING_AND_LONG = (rows.are_parts, rows.are_signs)
-LONG_AND_NUMBER = (halves.many_met, halves.first_met, halves.stair_for, halves.below, halves.above, every.weighed)
+LONG_AND_NUMBER = (
+    halves.many_met, halves.first_met, halves.stair_for, halves.below, halves.above, every.weighed, inturn.calm_many,
+)
 THING_LONG_NUMBER = (halves.is_stair,)
 
 ROW_ALONE = FEW_ALONE + LONG_ALONE
 THING_AND_ROW = THING_AND_FEW + THING_AND_LONG
 ROW_AND_NUMBER = FEW_AND_NUMBER + LONG_AND_NUMBER
 THING_ROW_NUMBER = THING_FEW_NUMBER + THING_LONG_NUMBER
-ROW_AND_PARTS = (rows.worth, rows.turned, rows.lots, rows.kept, texts.show)
+ROW_AND_PARTS = (rows.worth, rows.turned, rows.lots, rows.kept, texts.show, inturn.swing)
 
 THINGS = [None, True, 2, -1, "x", [], [(0,)], (), (1,), {}, [[0]]]
 

@@ -211,6 +211,18 @@ class Asked(unittest.TestCase):
                 self.assertGreater(keeper.worths_many(), before)
                 self.assertLessEqual(keeper.worths_many(), 2 * before)
 
+    def test_with_a_number_more_each_worth_leads_to_two(self):
+        for row in SMALL_ROWS + MORE_ROWS[:12]:
+            for number in (1, 2, 9, LARGE):
+                keeper = keeper_of(row)
+                before = {reached: keeper.ways(reached) for reached in signs_by_worth(row)}
+                keeper.put(number)
+                led = {reached + step for reached in before for step in (-number, number)}
+                self.assertEqual(keeper.worths_many(), len(led))
+                for reached in led:
+                    expected = before.get(reached - number, 0) + before.get(reached + number, 0)
+                    self.assertEqual(keeper.ways(reached), expected, (row, number, reached))
+
     def test_the_row_alone_counts(self):
         straight = keeper_of((3, 1, 4))
         around = keeper_of((9, 9))
